@@ -1,0 +1,64 @@
+"""What the tests share: things of any kind, and how a refusal is looked at."""
+
+from papertongue.errors import NoRows
+from papertongue.texts import Text
+
+
+class Plain:
+    """A class of nobody's."""
+
+
+class Sly:
+    """A thing that tells of itself what isn't so, and can't be compared."""
+
+    @property
+    def __class__(self):
+        return tuple
+
+    def __eq__(self, other):
+        raise AssertionError("compared")
+
+    def __len__(self):
+        raise AssertionError("measured")
+
+    def __iter__(self):
+        raise AssertionError("gone through")
+
+    __hash__ = None
+
+
+def deep_list(depth):
+    """A list within a list, and so on."""
+    made = []
+    for _ in range(depth):
+        made = [made]
+    return made
+
+
+def deep_tuple(depth):
+    """A tuple within a tuple, and so on."""
+    made = ()
+    for _ in range(depth):
+        made = (made,)
+    return made
+
+
+# None of these is a text, a tuple or a whole number.
+OTHER_THINGS = [
+    None, True, False, b"", b"a", b"row", bytearray(b"a"), [], ["a"], [("row",)], {}, {"a": 1}, set(), {"a"},
+    frozenset(("a",)), range(3), Ellipsis, NotImplemented, object(), Plain, Plain(), len, lambda: ("a",), Sly(),
+    Text(), Text((("break",),)), NoRows(0), NoRows, ValueError("a"), deep_list(9), iter(("a",)), str, tuple, slice(1),
+]
+
+NUMBERS = [-1, 0, 1, 2, 3, 12, 40, 10 ** 30]
+
+
+def refused(test, error, field, value, asked, *given, **named):
+    """See that what is asked is refused with this error and this value of its field, and tell the error."""
+    with test.assertRaises(error) as caught:
+        asked(*given, **named)
+    test.assertIs(type(caught.exception), error)
+    told = getattr(caught.exception, field)
+    test.assertIs(type(told), type(value))
+    test.assertEqual(told, value)
+    return caught.exception

@@ -1,0 +1,145 @@
+"""The package keeps to the rules of ../shared/LANGUAGE.md that can be looked at here."""
+
+import ast
+import pathlib
+import re
+import unittest
+
+PACKAGE = pathlib.Path(__file__).resolve().parent.parent / "papertongue"
+FILES = sorted(PACKAGE.glob("*.py"))
+BUILTINS = set(
+    "len range enumerate zip min max sum abs sorted reversed int str bool bytes list tuple dict set frozenset "
+    "isinstance ord repr any all divmod type super iter next ValueError LookupError ArithmeticError KeyError".split())
+BARRED = set("register mro elements open input law version_info with_traceback add_note".split())
+WORDS_BARRED = "typing enum Enum Generic Protocol ABC namedtuple dataclass overload contextmanager".split()
+METHODS = set(
+    "append clear copy count endswith extend find get index insert isalnum isalpha isdigit islower isspace isupper "
+    "items join keys ljust lower lstrip partition pop remove replace reverse rfind rjust rpartition rsplit rstrip "
+    "setdefault split splitlines startswith strip update upper values zfill bit_length add discard".split())
+DOUBLE = set("__init__ __eq__ __repr__ __str__ __len__".split())
+MODULE_LEVEL = (ast.Expr, ast.ImportFrom, ast.FunctionDef, ast.ClassDef, ast.Assign)
+NOT_USED = (
+    ast.GeneratorExp, ast.Global, ast.AsyncFunctionDef, ast.Await, ast.AsyncFor, ast.AsyncWith, ast.Div, ast.Import)
+
+
+def trees():
+    """(name of the file, its text, its tree) of all files of the package."""
+    for path in FILES:
+        text = path.read_text(encoding="utf-8")
+        yield path.name, text, ast.parse(text)
+
+
+class Files(unittest.TestCase):
+    def test_the_folder_holds_python_files_alone(self):
+        self.assertIn(PACKAGE / "__init__.py", FILES)
+        for path in PACKAGE.iterdir():
+            if path.name != "__pycache__":
+                self.assertEqual(path.suffix, ".py")
+                self.assertEqual(path.name, path.name.lower())
+
+    def test_size_and_signs(self):
+        for name, text, _ in trees():
+            lines = text.split("\n")
+            self.assertLessEqual(len(lines), 399, name)
+            for line in lines:
+                self.assertLessEqual(len(line), 120, (name, line))
+                self.assertEqual(line, line.rstrip(), name)
+                self.assertTrue(all(" " <= sign <= "~" for sign in line), (name, line))
+
+    def test_words_that_do_not_occur(self):
+        for name, text, _ in trees():
+            found = re.findall(r"[A-Za-z0-9_]+", text)
+            for word in WORDS_BARRED:
+                self.assertNotIn(word, found, name)
+
+
+class Forms(unittest.TestCase):
+    def test_module_level(self):
+        for name, _, tree in trees():
+            bound = []
+            for node in tree.body:
+                self.assertIsInstance(node, MODULE_LEVEL, name)
+                if isinstance(node, ast.Expr):
+                    self.assertIsInstance(node.value, ast.Constant, name)
+                if isinstance(node, ast.Assign):
+                    ast.literal_eval(node.value)
+                    self.assertEqual(len(node.targets), 1, name)
+                    bound.append(node.targets[0].id)
+                if isinstance(node, ast.ImportFrom):
+                    bound += [alias.asname or alias.name for alias in node.names]
+                if isinstance(node, (ast.FunctionDef, ast.ClassDef)):
+                    bound.append(node.name)
+            self.assertEqual(len(bound), len(set(bound)), name)
+
+    def test_imports(self):
+        for name, _, tree in trees():
+            for node in ast.walk(tree):
+                if isinstance(node, ast.ImportFrom):
+                    self.assertTrue(node.module.startswith("papertongue."), (name, node.module))
+                    self.assertEqual(node.level, 0, name)
+                    for alias in node.names:
+                        path = PACKAGE / (node.module.split(".")[1] + ".py")
+                        self.assertIn(alias.name, list(names_defined(path)), (name, alias.name))
+
+    def test_functions(self):
+        for name, _, tree in trees():
+            for node in ast.walk(tree):
+                self.assertNotIsInstance(node, NOT_USED, name)
+                if isinstance(node, (ast.FunctionDef, ast.ClassDef)):
+                    self.assertEqual(node.decorator_list, [], (name, node.name))
+                if isinstance(node, ast.FunctionDef):
+                    self.assertLessEqual(node.end_lineno - node.lineno + 1, 40, (name, node.name))
+                    if node.name.startswith("__"):
+                        self.assertIn(node.name, DOUBLE, name)
+
+    def test_names(self):
+        for name, _, tree in trees():
+            for node in ast.walk(tree):
+                for word in names_of(node):
+                    self.assertNotIn(word, BARRED, name)
+                    self.assertFalse(word.startswith("__") and word not in DOUBLE, (name, word))
+
+    def test_values(self):
+        for name, _, tree in trees():
+            for node in ast.walk(tree):
+                if isinstance(node, ast.Constant):
+                    self.assertNotIsInstance(node.value, (float, complex), name)
+                    if isinstance(node.value, str):
+                        self.assertNotIn("%", node.value, name)
+                if isinstance(node, ast.Compare):
+                    for sign, right in zip(node.ops, node.comparators):
+                        if isinstance(sign, (ast.Is, ast.IsNot)):
+                            self.assertIn(getattr(right, "value", 0), (None, True, False), name)
+
+    def test_calls(self):
+        methods = {node.name for _, _, tree in trees() for node in ast.walk(tree) if isinstance(node, ast.FunctionDef)}
+        for name, _, tree in trees():
+            known = set(names_defined(PACKAGE / name)) | BUILTINS
+            for node in ast.walk(tree):
+                if isinstance(node, ast.Call) and isinstance(node.func, ast.Name):
+                    self.assertIn(node.func.id, known, name)
+                if isinstance(node, ast.Call) and isinstance(node.func, ast.Attribute):
+                    self.assertIn(node.func.attr, methods | METHODS, name)
+
+
+def names_defined(path):
+    """The names that a file binds at module level."""
+    for node in ast.parse(path.read_text(encoding="utf-8")).body:
+        if isinstance(node, (ast.FunctionDef, ast.ClassDef)):
+            yield node.name
+        if isinstance(node, ast.Assign):
+            yield node.targets[0].id
+        if isinstance(node, ast.ImportFrom):
+            yield from [alias.name for alias in node.names]
+
+
+def names_of(node):
+    """The names that stand in a node itself."""
+    for field in ("id", "attr", "arg", "name"):
+        word = getattr(node, field, None)
+        if isinstance(word, str):
+            yield word
+
+
+if __name__ == "__main__":
+    unittest.main()
