@@ -1,6 +1,7 @@
 """The package keeps to the rules of ../shared/LANGUAGE.md that can be looked at here."""
 
 import ast
+import builtins
 import pathlib
 import re
 import unittest
@@ -120,6 +121,111 @@ class Forms(unittest.TestCase):
                     self.assertIn(node.func.id, known, name)
                 if isinstance(node, ast.Call) and isinstance(node.func, ast.Attribute):
                     self.assertIn(node.func.attr, methods | METHODS, name)
+
+
+class Names(unittest.TestCase):
+    def test_no_name_is_a_method_and_an_attribute(self):
+        methods, attributes = set(), set()
+        for _, _, tree in trees():
+            for node in ast.walk(tree):
+                if isinstance(node, ast.ClassDef):
+                    methods |= {one.name for one in node.body if isinstance(one, ast.FunctionDef)}
+                if isinstance(node, ast.Attribute) and isinstance(node.ctx, ast.Store):
+                    attributes.add(node.attr)
+        self.assertEqual(methods & attributes, set())
+
+    def test_attributes_that_are_read_are_assigned(self):
+        known = set(METHODS)
+        for _, _, tree in trees():
+            for node in ast.walk(tree):
+                if isinstance(node, ast.FunctionDef):
+                    known.add(node.name)
+                if isinstance(node, ast.Attribute) and isinstance(node.ctx, ast.Store):
+                    known.add(node.attr)
+        for name, _, tree in trees():
+            for node in ast.walk(tree):
+                if isinstance(node, ast.Attribute):
+                    self.assertIn(node.attr, known, name)
+
+    def test_locals_have_no_names_of_imports_classes_and_builtins(self):
+        for name, _, tree in trees():
+            barred = set(dir(builtins))
+            for node in tree.body:
+                if isinstance(node, ast.ImportFrom):
+                    barred |= {alias.name for alias in node.names}
+                if isinstance(node, ast.ClassDef):
+                    barred.add(node.name)
+            for node in ast.walk(tree):
+                if isinstance(node, ast.Name) and isinstance(node.ctx, ast.Store):
+                    self.assertNotIn(node.id, barred, name)
+                if isinstance(node, ast.arg):
+                    self.assertNotIn(node.arg, barred, name)
+                if isinstance(node, ast.FunctionDef) and node in tree.body:
+                    self.assertNotIn(node.name, barred, name)
+
+    def test_no_two_files_import_from_each_other(self):
+        imported = {}
+        for name, _, tree in trees():
+            modules = [node.module for node in tree.body if isinstance(node, ast.ImportFrom)]
+            imported[name] = {module.split(".")[1] + ".py" for module in modules}
+        while imported:
+            free = [name for name in imported if not imported[name] & set(imported)]
+            self.assertTrue(free, imported)
+            for name in free:
+                del imported[name]
+
+    def test_all_that_is_imported_is_used(self):
+        for name, _, tree in trees():
+            used = {node.id for node in ast.walk(tree) if isinstance(node, ast.Name)}
+            for node in tree.body:
+                if isinstance(node, ast.ImportFrom):
+                    for alias in node.names:
+                        self.assertIn(alias.name, used, name)
+
+
+class Interface(unittest.TestCase):
+    # Each module with its functions and their arguments, and its classes with their methods.
+    FUNCTIONS = {
+        "tokens": {
+            "is_word": ["thing"], "is_token": ["thing"], "is_tokens": ["thing", "plain"], "show_tokens": ["tokens"],
+            "read_tokens": ["text"]},
+        "documents": {"document_of": ["text"]},
+        "numbers": {
+            "numbers": ["document"], "counted": ["document", "row", "token"], "number_of": ["document", "name"]},
+        "printing": {
+            "printed": ["document", "size"], "on_pages": ["document", "width", "height"],
+            "on_screen": ["document", "width"], "as_plain": ["document"]},
+        "places": {"shown": ["printing", "row", "token"], "source": ["printing", "page", "line", "column"]},
+    }
+    CLASSES = {
+        ("texts", "Text"): {"__init__": ["self", "rows"], "tree": ["self"]},
+        ("documents", "Document"): {"__init__": ["self", "texts"], "shown_in": ["self", "kind"]},
+        ("printing", "Printing"): {"stands": ["self", "name"]},
+    }
+
+    def arguments(self, node):
+        return [one.arg for one in node.args.posonlyargs + node.args.args + node.args.kwonlyargs]
+
+    def functions(self, body):
+        return {node.name: self.arguments(node) for node in body if isinstance(node, ast.FunctionDef)}
+
+    def body_of(self, module):
+        return ast.parse((PACKAGE / (module + ".py")).read_text(encoding="utf-8")).body
+
+    def test_functions_are_defined_where_it_lists_them(self):
+        for module, told in self.FUNCTIONS.items():
+            found = self.functions(self.body_of(module))
+            for name, arguments in told.items():
+                self.assertEqual(found.get(name), arguments, (module, name))
+
+    def test_methods_are_defined_in_the_class_itself(self):
+        for (module, name), told in self.CLASSES.items():
+            (node,) = [node for node in self.body_of(module) if isinstance(node, ast.ClassDef) and node.name == name]
+            found = self.functions(node.body)
+            for method, arguments in told.items():
+                self.assertEqual(found.get(method), arguments, (name, method))
+            for method in ("__eq__", "__len__", "__str__", "__repr__"):
+                self.assertIn(method, found, name)
 
 
 def names_defined(path):
