@@ -3,7 +3,7 @@
 from papertongue.counting import Counting
 from papertongue.errors import NoInclude, NoKind, NoMark, NoRows, NoStyle, NoTexts, Ring, TooMany, Twice
 from papertongue.includes import count_rows, missing_name, ring_name, rows_of
-from papertongue.marks import twice_name, unmarked_name
+from papertongue.marks import mark_numbers, twice_name, unmarked_name
 from papertongue.rows import show_row
 from papertongue.texts import Text
 from papertongue.things import is_text, is_tuple
@@ -33,6 +33,7 @@ class Document:
         self.texts = texts
         self.rows = rows
         self.counting = Counting(rows)
+        self.mark_numbers = mark_numbers(rows, self.counting.numbers)
 
     def shown_in(self, kind):
         """The numbers of ROWS that are shown in printings of this KIND."""

@@ -1,6 +1,7 @@
 """Marks: which there are, to which ones TOKENs refer, what they stand in and where."""
 
 from papertongue.parts import parted, tokens_of
+from papertongue.tokens import PAIRS
 
 AHEAD_OF_REFERENCES = ("#", "~", "&")
 WITH_LABEL = ("head", "item", "figure", "table")
@@ -59,11 +60,14 @@ def mark_numbers(rows, numbers):
 def _number_marks(found, numbers, at, row, own):
     """Add to what is found the numbers of the ROW's marks; own is that of those outside of notes."""
     tokens = tokens_of(row) or ()
-    body, notes = parted(tokens)
-    for inside, number in [(body, own)] + [(inside, numbers[(at, bracket)]) for bracket, inside in notes]:
-        for token in inside:
-            if tokens[token][0] == "@":
-                found[tokens[token][1:]] = number
+    number = own
+    for place, token in enumerate(tokens):
+        if token in PAIRS:
+            number = numbers[(at, place)]
+        elif token in ("}", "]"):
+            number = own
+        elif token[0] == "@":
+            found[token[1:]] = number
 
 
 def mark_spots(rows, shown):

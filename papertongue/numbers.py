@@ -2,7 +2,6 @@
 
 from papertongue.documents import Document
 from papertongue.errors import NoDocument, NoMark, NoNumber
-from papertongue.marks import mark_numbers
 from papertongue.things import is_text, is_whole
 from papertongue.tokens import MOST_TOKENS
 
@@ -28,10 +27,9 @@ def counted(document, row, token=None):
 def number_of(document, name):
     """The number of what the mark of this NAME stands in."""
     _refuse_other(document)
-    found = mark_numbers(document.rows, document.counting.numbers)
-    if not is_text(name) or name not in found:
+    if not is_text(name) or name not in document.mark_numbers:
         raise NoMark(name)
-    return found[name]
+    return document.mark_numbers[name]
 
 
 def _refuse_other(thing):

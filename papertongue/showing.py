@@ -1,6 +1,6 @@
 """What a document shows in the printings of one KIND, whatever the WIDTH."""
 
-from papertongue.marks import label_spot, mark_numbers, mark_spots
+from papertongue.marks import label_spot, mark_spots
 from papertongue.parts import NOTE_KINDS, parted, tokens_of
 from papertongue.words import Word
 
@@ -13,7 +13,7 @@ class Showing:
         self.rows = document.rows
         self.shown = document.shown_in(kind)
         self.numbers = document.counting.numbers
-        self.mark_numbers = mark_numbers(self.rows, self.numbers)
+        self.mark_numbers = document.mark_numbers
         self.mark_spots = mark_spots(self.rows, self.shown)
         # The Words of each ROW and, by (ROW, TOKEN), of each note, those ahead of its TOKENS too.
         self.row_words = {}
@@ -89,7 +89,7 @@ class Showing:
         """Of each entry of the index its WORD and the spots where this stands."""
         if not any([self.rows[at][0] == "index" for at in self.shown]):
             return []
-        return [(word, self.indexed[word]) for word in sorted(self.indexed, key=_index_key)]
+        return [(word, self.indexed[word]) for word in sorted(list(self.indexed), key=_index_key)]
 
 
 def figure_spot(row):

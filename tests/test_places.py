@@ -97,6 +97,12 @@ class Shown(unittest.TestCase):
         self.assertEqual(shown(made, 3, 1), ((1, 4, 2, 3),))
         self.assertEqual(shown(made, 4, 0), ((1, 4, 6, 7),))
 
+    def test_behind_a_cell_without_words_in_a_plain_text(self):
+        made = as_plain(document(*table(2, "", ["", "ab"])))
+        self.assertEqual(made.pages[0][1], " | ab")
+        self.assertEqual(shown(made, 3, 0), ((1, 2, 3, 5),))
+        self.assertEqual(line_sources(made, 1, 2), made_by("fill", 1, 3) + text(3, 0, 2))
+
     def test_by_names(self):
         made = screen(para("a"))
         self.assertEqual(shown(token=0, printing=made, row=0), ((1, 1, 0, 1),))
