@@ -67,7 +67,7 @@ class Showing:
         return [Word(self._signs(at, number, tokens[number]), ("text", at, number), (at, number)) for number in shown]
 
     def _signs(self, at, number, token):
-        """The signs that a TOKEN shows; of `~` and `&` as many as those that show in the end."""
+        """The signs that a TOKEN shows; of `&` as many as in the end, of `~` one, as each round has sizes for these."""
         if token[0] == "^":
             return token[1:]
         if token[0] == "#":
