@@ -36,7 +36,7 @@ class Book:
             return
         while self._wanted(lump) > self._left():
             self._end_page(("full", lump.row, self._wanted(lump), self._left()))
-        self._lay(lump)
+        self._set_down(lump)
 
     def finish(self):
         """End the last page, and those of the figures that wait."""
@@ -52,7 +52,7 @@ class Book:
         if self.waiting or self._wanted(lump) > self._left():
             self.waiting.append(lump)
         else:
-            self._lay(lump)
+            self._set_down(lump)
 
     def _wanted(self, lump):
         """How many lines the lump wants on this page."""
@@ -70,7 +70,7 @@ class Book:
             used += 1
         return self.height - used
 
-    def _lay(self, lump):
+    def _set_down(self, lump):
         """Lay a lump that has room."""
         if self.body:
             self.body.extend(empty_lines(lump.before))
@@ -90,7 +90,7 @@ class Book:
         self.foot_lines = []
         self.breaking = None
         while self.waiting and self._wanted(self.waiting[0]) <= self._left():
-            self._lay(self.waiting.pop(0))
+            self._set_down(self.waiting.pop(0))
 
 
 def pages_of(measure, lumps, height):
