@@ -41,7 +41,7 @@ class Counting:
         self.head_forms = ["1"] * MOST_DEPTH
         self.rules = {"table": ("1", 0), "figure": ("1", 0), "foot": ("1", 0), "end": ("1", 0), "item": ("1", 0)}
         self.heads = [Count() for _ in range(MOST_DEPTH)]
-        self.items = [Count() for _ in range(MOST_DEPTH)]
+        self.item_counts = [Count() for _ in range(MOST_DEPTH)]
         self.others = {kind: Count() for kind in ("table", "figure", "foot", "end")}
         self.kinds = {}
         self.numbers = {}
@@ -78,14 +78,14 @@ class Counting:
 
     def _begin_items(self, depth):
         """Make the counts of all items of greater depths 0."""
-        for count in self.items[depth:]:
+        for count in self.item_counts[depth:]:
             count.begin()
 
     def _count_item(self, at, row):
         depth = row[1]
         self._begin_items(depth)
         if row[2] == "num":
-            count = self.items[depth - 1]
+            count = self.item_counts[depth - 1]
             count.made.append((at, None))
             self._tell(at, None, "item", count.written(self.rules["item"][0]), count)
 

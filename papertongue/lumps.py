@@ -10,14 +10,14 @@ LISTS = ("contents", "figures", "index", "endnotes")
 
 
 class Lump:
-    """Lines that hang together: of which sort they are (`head`, `figure` or `lines`), the ROW of the first, how many
+    """Lines that hang together: of which kind they are (`head`, `figure` or `lines`), the ROW of the first, how many
     empty lines they want ahead, the lines of the foot notes called in them, and the last head of DEPTH 1 in them.
 
     A `break` stands among them as a Lump without lines.
     """
 
-    def __init__(self, sort, row, before, lines):
-        self.sort = sort
+    def __init__(self, kind, row, before, lines):
+        self.kind = kind
         self.row = row
         self.before = before
         self.lines = lines
@@ -101,7 +101,7 @@ def joined(lumps):
     """The Lumps, each head's one with the next, where neither a figure nor a `break` stands between."""
     found = []
     for lump in reversed(lumps):
-        if lump.sort == "head" and found and found[-1].sort in ("head", "lines"):
+        if lump.kind == "head" and found and found[-1].kind in ("head", "lines"):
             found.append(_together(lump, found.pop()))
         else:
             found.append(lump)

@@ -25,13 +25,13 @@ class Book:
 
     def take(self, lump):
         """Lay the next lump, figure or `break`."""
-        if lump.sort == "break":
+        if lump.kind == "break":
             if self.body and self.breaking is None:
                 self.breaking = lump.row
             return
         if self.breaking is not None:
             self._end_page(("break", self.breaking))
-        if lump.sort == "figure":
+        if lump.kind == "figure":
             self._take_figure(lump)
             return
         while self._wanted(lump) > self._left():

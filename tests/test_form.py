@@ -18,6 +18,9 @@ METHODS = set(
     "items join keys ljust lower lstrip partition pop remove replace reverse rfind rjust rpartition rsplit rstrip "
     "setdefault split splitlines startswith strip update upper values zfill bit_length add discard".split())
 DOUBLE = set("__init__ __eq__ __repr__ __str__ __len__".split())
+# L26: what values of Python's own have as a method or an attribute, but for those that an attribute may be called.
+OF_VALUES = {name for kind in (str, int, bytes, list, tuple, dict, set) for name in dir(kind)} | {"args"}
+MAY_BE_ATTRIBUTES = set("count index title find get join lower upper split strip copy add".split())
 MODULE_LEVEL = (ast.Expr, ast.ImportFrom, ast.FunctionDef, ast.ClassDef, ast.Assign)
 NOT_USED = (
     ast.GeneratorExp, ast.Global, ast.AsyncFunctionDef, ast.Await, ast.AsyncFor, ast.AsyncWith, ast.Div, ast.Import)
@@ -124,6 +127,26 @@ class Forms(unittest.TestCase):
 
 
 class Names(unittest.TestCase):
+    def test_no_attribute_has_a_name_of_values_of_pythons_own(self):
+        barred = OF_VALUES - MAY_BE_ATTRIBUTES
+        self.assertLessEqual(set("items keys values pop append sort args format".split()), barred)
+        seen = 0
+        for name, _, tree in trees():
+            for node in ast.walk(tree):
+                if isinstance(node, ast.Attribute) and isinstance(node.ctx, ast.Store):
+                    self.assertNotIn(node.attr, barred, (name, node.lineno))
+                    seen += 1
+        self.assertGreater(seen, 50)
+
+    def test_no_method_has_another_name_of_values_of_pythons_own(self):
+        barred = OF_VALUES - METHODS - DOUBLE
+        for name, _, tree in trees():
+            for node in ast.walk(tree):
+                if isinstance(node, ast.ClassDef):
+                    for one in node.body:
+                        if isinstance(one, ast.FunctionDef):
+                            self.assertNotIn(one.name, barred, (name, one.lineno))
+
     def test_no_name_is_a_method_and_an_attribute(self):
         methods, attributes = set(), set()
         for _, _, tree in trees():
