@@ -40,6 +40,15 @@ def unmarked_name(rows):
     return None
 
 
+def mark_place(rows, name):
+    """The (ROW, TOKEN) of the mark of this NAME; None without one."""
+    for at, row in enumerate(rows):
+        for place, token in enumerate(tokens_of(row) or ()):
+            if token == "@" + name:
+                return (at, place)
+    return None
+
+
 def mark_numbers(rows, numbers):
     """For each mark's NAME the number of what it stands in; numbers are kept by (ROW, TOKEN)."""
     found = {}

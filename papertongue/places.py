@@ -2,9 +2,8 @@
 
 from papertongue.errors import NoPlace, NoPrinting
 from papertongue.parts import tokens_of
-from papertongue.printing import Printing
+from papertongue.printing import Printing, sign_source
 from papertongue.things import is_whole
-from papertongue.words import origin_at
 
 
 def shown(printing, row, token):
@@ -28,11 +27,10 @@ def shown(printing, row, token):
 def source(printing, page, line, column):
     """What the sign at this place of a Printing shows."""
     _refuse_other(printing)
-    pages = printing.pages
-    is_there = is_whole(page, 1, len(pages)) and is_whole(line, 1, len(pages[page - 1]))
-    if not is_there or not is_whole(column, 0, len(pages[page - 1][line - 1]) - 1):
+    told = sign_source(printing, page, line, column)
+    if told is None:
         raise NoPlace((page, line, column))
-    return origin_at(printing.last_round.pages[page - 1][line - 1], pages[page - 1][line - 1], column)
+    return told
 
 
 def _refuse_other(thing):

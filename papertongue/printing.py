@@ -5,6 +5,7 @@ from papertongue.errors import NoDocument, NoMark, NoSize
 from papertongue.rounds import Round, first_sizes
 from papertongue.showing import Showing
 from papertongue.things import is_text, is_tuple, is_whole
+from papertongue.words import origin_at
 
 MOST_WIDE = 40
 MOST_HIGH = 24
@@ -52,7 +53,11 @@ def printed(document, size):
         raise NoDocument(None)
     if not is_size(size):
         raise NoSize(size)
-    showing = Showing(document, size[0])
+    return printed_by(Showing(document, size[0]), size)
+
+
+def printed_by(showing, size):
+    """The Printing in this SIZE of what a document shows in printings of its KIND."""
     sizes = first_sizes(showing)
     rounds = []
     while len(rounds) == 0 or sizes != rounds[-1]:
@@ -75,6 +80,26 @@ def on_screen(document, *, width=MOST_WIDE):
 def as_plain(document):
     """The Printing of a Document as plain text."""
     return printed(document, ("plain",))
+
+
+def sign_source(printing, page, line, column):
+    """What the sign at this place of a Printing shows; None where there is none."""
+    pages = printing.pages
+    is_there = is_whole(page, 1, len(pages)) and is_whole(line, 1, len(pages[page - 1]))
+    if not is_there or not is_whole(column, 0, len(pages[page - 1][line - 1]) - 1):
+        return None
+    return origin_at(printing.last_round.pages[page - 1][line - 1], pages[page - 1][line - 1], column)
+
+
+def unlike_place(pages, others):
+    """(PAGE, LINE) of the first line that pages of two Printings don't both have alike; None where they are alike."""
+    for page in range(max(len(pages), len(others))):
+        lines = pages[page] if page < len(pages) else ()
+        theirs = others[page] if page < len(others) else ()
+        for line in range(max(len(lines), len(theirs))):
+            if lines[line:line + 1] != theirs[line:line + 1]:
+                return (page + 1, line + 1)
+    return None
 
 
 def is_size(thing):

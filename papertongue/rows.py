@@ -55,10 +55,15 @@ def _is_part(thing, form):
     if form[0] == "name":
         return is_name(thing)
     if form[0] == "style":
-        return is_name(thing) or is_text(thing) and thing == "-"
+        return is_style(thing)
     if form[0] == "bare":
         return is_bare(thing)
     return is_tokens(thing, plain=form[0] == "plain")
+
+
+def is_style(thing):
+    """Whether the thing is a STYLE."""
+    return is_name(thing) or is_text(thing) and thing == "-"
 
 
 def _counts_within(kind, within):

@@ -17,3 +17,16 @@ def is_tuple(thing):
 def is_whole(thing, least, most):
     """Whether the thing is a whole number from least to most."""
     return type(thing) == int and least <= thing <= most
+
+
+def is_same(thing, told):
+    """Whether the thing is just what is told: a text, a whole number, None, or a tuple of such."""
+    if is_tuple(told):
+        if not is_tuple(thing) or len(thing) != len(told):
+            return False
+        return all([is_same(part, told_part) for part, told_part in zip(thing, told)])
+    if told is None:
+        return thing is None
+    if is_text(told):
+        return is_text(thing) and thing == told
+    return is_whole(thing, told, told)

@@ -1,6 +1,8 @@
 """What the tests share: things of any kind, how a refusal is looked at, and how documents are made."""
 
+from papertongue.desk import Desk
 from papertongue.documents import document_of
+from papertongue.drafts import Draft
 from papertongue.errors import NoRows
 from papertongue.printing import as_plain
 from papertongue.texts import Text
@@ -49,7 +51,8 @@ def deep_tuple(depth):
 OTHER_THINGS = [
     None, True, False, b"", b"a", b"row", bytearray(b"a"), [], ["a"], [("row",)], {}, {"a": 1}, set(), {"a"},
     frozenset(("a",)), range(3), Ellipsis, NotImplemented, object(), Plain, Plain(), len, lambda: ("a",), Sly(),
-    Text(), Text((("break",),)), document_of(Text()), as_plain(document_of(Text())), NoRows(0), NoRows, ValueError("a"), deep_list(9), iter(("a",)), str, tuple, slice(1),
+    Text(), Text((("break",),)), document_of(Text()), as_plain(document_of(Text())), Draft(Text()), Desk(), NoRows(0),
+    NoRows, ValueError("a"), deep_list(9), iter(("a",)), str, tuple, slice(1),
 ]
 
 NUMBERS = [-1, 0, 1, 2, 3, 12, 40, 10 ** 30]

@@ -60,20 +60,30 @@ class Files(unittest.TestCase):
 class Forms(unittest.TestCase):
     def test_module_level(self):
         for name, _, tree in trees():
-            bound = []
+            bound, functions = [], []
             for node in tree.body:
                 self.assertIsInstance(node, MODULE_LEVEL, name)
                 if isinstance(node, ast.Expr):
                     self.assertIsInstance(node.value, ast.Constant, name)
                 if isinstance(node, ast.Assign):
-                    ast.literal_eval(node.value)
+                    self.look_at_value(node.value, functions)
                     self.assertEqual(len(node.targets), 1, name)
                     bound.append(node.targets[0].id)
                 if isinstance(node, ast.ImportFrom):
                     bound += [alias.asname or alias.name for alias in node.names]
+                if isinstance(node, ast.FunctionDef):
+                    functions.append(node.name)
                 if isinstance(node, (ast.FunctionDef, ast.ClassDef)):
                     bound.append(node.name)
             self.assertEqual(len(bound), len(set(bound)), name)
+
+    def look_at_value(self, value, functions):
+        """A plain value; or a dict of names of functions that are defined above it."""
+        if isinstance(value, ast.Dict) and all(isinstance(one, ast.Name) for one in value.values):
+            for one in value.values:
+                self.assertIn(one.id, functions)
+            value = ast.List(value.keys, ast.Load())
+        ast.literal_eval(value)
 
     def test_imports(self):
         for name, _, tree in trees():
@@ -119,6 +129,11 @@ class Forms(unittest.TestCase):
         methods = {node.name for _, _, tree in trees() for node in ast.walk(tree) if isinstance(node, ast.FunctionDef)}
         for name, _, tree in trees():
             known = set(names_defined(PACKAGE / name)) | BUILTINS
+            # What is taken from a table is given a name first, and called by it.
+            for node in ast.walk(tree):
+                if isinstance(node, ast.Assign) and isinstance(node.value, ast.Subscript):
+                    if isinstance(node.value.value, ast.Name) and node.value.value.id.isupper():
+                        known.add(node.targets[0].id)
             for node in ast.walk(tree):
                 if isinstance(node, ast.Call) and isinstance(node.func, ast.Name):
                     self.assertIn(node.func.id, known, name)
@@ -219,11 +234,26 @@ class Interface(unittest.TestCase):
             "printed": ["document", "size"], "on_pages": ["document", "width", "height"],
             "on_screen": ["document", "width"], "as_plain": ["document"]},
         "places": {"shown": ["printing", "row", "token"], "source": ["printing", "page", "line", "column"]},
+        "reading": {"read_text": ["text"]},
+        "reprints": {"reprinted": ["printing", "document"]},
+        "apart": {"apart": ["one", "other"]},
+        "drafttexts": {"read_draft": ["text"]},
+        "checker": {"holds": ["claim", "paper"]},
+        "papers": {
+            "paper_number": ["document", "row", "token"], "paper_mark": ["document", "name"],
+            "paper_printed": ["document", "size"], "paper_ends": ["document", "size", "page"],
+            "paper_stands": ["document", "size", "name"],
+            "paper_sign": ["document", "size", "page", "line", "column"], "paper_apart": ["one", "other"],
+            "paper_clash": ["draft", "one", "other"], "paper_taken": ["draft"]},
     }
     CLASSES = {
         ("texts", "Text"): {"__init__": ["self", "rows"], "tree": ["self"]},
         ("documents", "Document"): {"__init__": ["self", "texts"], "shown_in": ["self", "kind"]},
         ("printing", "Printing"): {"stands": ["self", "name"]},
+        ("drafts", "Draft"): {
+            "__init__": ["self", "text", "changes"], "take": ["self", "number"], "leave": ["self", "number"],
+            "open_again": ["self", "number"], "take_all": ["self", "numbers"], "state": ["self"], "text": ["self"],
+            "elder": ["self"], "newer": ["self"], "clashes": ["self"]},
     }
 
     def arguments(self, node):
@@ -249,6 +279,10 @@ class Interface(unittest.TestCase):
                 self.assertEqual(found.get(method), arguments, (name, method))
             for method in ("__eq__", "__len__", "__str__", "__repr__"):
                 self.assertIn(method, found, name)
+
+    def test_the_desk(self):
+        (node,) = [node for node in self.body_of("desk") if isinstance(node, ast.ClassDef)]
+        self.assertEqual((node.name, self.functions(node.body)), ("Desk", {"__init__": ["self"], "say": ["self", "line"]}))
 
 
 def names_defined(path, imports=True):
