@@ -1,7 +1,7 @@
 """The rules of changes: what a change to a text is, which clash, and the text that comes of them."""
 
 from papertongue.errors import NoChanges, TooMany
-from papertongue.rows import is_row, is_style
+from papertongue.rows import RULE_ROWS, is_row, is_style
 from papertongue.texts import MOST_ROWS, Text
 from papertongue.things import is_text, is_tuple, is_whole
 from papertongue.tokens import MOST_TOKENS, is_bare, is_name, is_tokens
@@ -9,7 +9,7 @@ from papertongue.tokens import MOST_TOKENS, is_bare, is_name, is_tokens
 MOST_CHANGES = 24
 # As a place behind which a row comes: ahead of all but `style` and `counter` rows.
 AHEAD_OF_ALL = -1
-RULE_ROWS = ("style", "counter")
+# What may be cut, moved and added; and what has TOKENs that may be put in and struck.
 MOVING_ROWS = ("head", "para", "item", "figure", "contents", "figures", "break", "include")
 TOKEN_ROWS = ("head", "para", "item", "cell")
 # Rows behind which none comes, so that rules stay ahead of all and nothing else stands in a table.

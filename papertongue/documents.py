@@ -4,7 +4,7 @@ from papertongue.counting import Counting
 from papertongue.errors import NoInclude, NoKind, NoMark, NoRows, NoStyle, NoTexts, Ring, TooMany, Twice
 from papertongue.includes import count_rows, missing_name, ring_name, rows_of
 from papertongue.marks import mark_numbers, twice_name, unmarked_name
-from papertongue.rows import show_row
+from papertongue.rows import RULE_ROWS, show_row
 from papertongue.texts import Text
 from papertongue.things import is_text, is_tuple
 from papertongue.tokens import is_name
@@ -12,7 +12,6 @@ from papertongue.tokens import is_name
 MOST_TEXTS = 6
 MOST_DOCUMENT_ROWS = 160
 KINDS = ("pages", "screen", "plain")
-RULES = ("style", "counter")
 
 
 def document_of(text):
@@ -46,7 +45,7 @@ class Document:
                 whens.append(row[1])
             elif row[0] == "done":
                 whens.pop()
-            elif row[0] not in RULES and all([told == kind for told in whens]):
+            elif row[0] not in RULE_ROWS and all([told == kind for told in whens]):
                 found.append(at)
         return tuple(found)
 
@@ -76,7 +75,7 @@ def _refuse_texts(texts):
     for place, named in enumerate(texts):
         if not is_tuple(named) or len(named) != 2 or not is_name(named[0]) or not _is_made_text(named[1]):
             raise NoTexts(place)
-        if named[0] in names or place > 0 and any([row[0] in RULES for row in named[1].rows]):
+        if named[0] in names or place > 0 and any([row[0] in RULE_ROWS for row in named[1].rows]):
             raise NoTexts(place)
         names.append(named[0])
 

@@ -29,6 +29,8 @@ ROW_PARTS = {
     "when": (("choice", "pages", "screen", "plain"),),
     "done": (),
 }
+# Rows that stand ahead of all others and show nothing: they tell how others are shown and counted.
+RULE_ROWS = ("style", "counter")
 
 
 def is_row(thing):

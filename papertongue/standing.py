@@ -1,7 +1,7 @@
 """Where ROWs may stand."""
 
 from papertongue.grids import Grid
-from papertongue.rows import is_row
+from papertongue.rows import RULE_ROWS, is_row
 
 MOST_WHENS = 3
 
@@ -17,7 +17,7 @@ class Standing:
 
     def takes(self, row):
         """Take the ROW where it may stand here, and tell whether it may; behind a False ask no more."""
-        if row[0] in ("style", "counter"):
+        if row[0] in RULE_ROWS:
             return self._takes_rule(row)
         self.is_ahead = False
         if self.grid is not None:

@@ -114,6 +114,13 @@ class Screens(ApartCase):
             self.parts([styles[0], para(words, "s")], [styles[1], para(words, "s")],
                        place and (("screen", place), 1, 1))
 
+    def test_in_no_width_that_there_is(self):
+        # Two columns have 19 signs each where the WIDTH is the greatest, and would have 20 in a greater one.
+        for long, place in ((9, None), (8, (("screen", 39), 1, 2)), (1, (("screen", 25), 1, 2))):
+            one, other = "a" * 10, "b" * long
+            self.parts(when("screen", *table(2, "", [f"{one} {other}"])),
+                       when("screen", *table(2, "", [one], [other])), place)
+
     def test_of_one_width_alone(self):
         styles = [("style", "s", 0, 0, 0, "right"), ("style", "s", 1, 0, 0, "right")]
         for long in (24, 25):
@@ -161,6 +168,13 @@ class TallOnes(ApartCase):
     def test_in_both_by_the_same_row(self):
         rows = [figure(6, "a b c d e f g h " * 5), para("x")]
         self.parts([*rows, para()], rows, None)
+
+    def test_in_all_pages_that_there_are(self):
+        # Of 24 lines, so that a page would need one more than any has.
+        tall = [*[head(1)] * 12, dot(1)]
+        self.assertEqual(told(document(*tall), ("pages", 40, 24)), 0)
+        self.parts([*tall, *when("pages", para("x"))], tall, None)
+        self.parts([*tall[2:], *when("pages", para("x"))], tall[2:], (("pages", 24, 21), 2, 1))
 
     def test_by_the_same_row_in_low_pages_alone(self):
         tall = [head(1)] * 5 + [para("a")]
