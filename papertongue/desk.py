@@ -121,7 +121,7 @@ def _answer_clashes(desk, words):
 
 
 def _answer_draft(desk, words):
-    return _in_one_line(_draft_of(desk).text()) if len(words) == 1 else None
+    return _in_one_line(_draft_of(desk)) if len(words) == 1 else None
 
 
 def _answer_paper(desk, words):
@@ -180,7 +180,7 @@ def _draft_of(desk):
 
 
 def _in_one_line(thing):
-    """A Text or a Printing as a text in one line."""
+    """A Draft or a Printing as a text in one line."""
     return str(thing).replace("\n", " / ")
 
 

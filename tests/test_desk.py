@@ -52,6 +52,10 @@ class DeskCase(unittest.TestCase):
         for line in lines:
             self.assertIs(self.refuses(desk, line, NoLine, "line", line).line, line)
 
+    def drafts(self, desk, rows, *changes):
+        """See that the desk's draft has these rows, and these changes with their states."""
+        self.says(desk, "draft", " / ".join([*rows, "=====", *changes]))
+
     def whole(self, desk):
         """All that a desk answers, and all that it keeps."""
         kept = [repr(sorted(vars(desk).items()))]
@@ -69,11 +73,11 @@ class Texts(DeskCase):
         self.says(desk, "plain", "")
         self.says(desk, "numbers", "none")
         self.says(desk, "clashes", "none")
-        self.says(desk, "draft", "")
+        self.says(desk, "draft", "=====")
         self.says(desk, "gone", "ok")
         self.says(desk, "paper pages 24 10", "holds")
         self.says(desk, "row head 1", "ok")
-        self.says(desk, "draft", "head 1")
+        self.says(desk, "draft", "head 1 / =====")
 
     def test_the_text_in_hand(self):
         desk = Desk()
@@ -90,10 +94,10 @@ class Texts(DeskCase):
 
     def test_rows(self):
         desk = told_at(main=MAIN)
-        self.says(desk, "draft", " / ".join(MAIN))
+        self.drafts(desk, MAIN)
         desk = Desk()
         say_all(desk, "row .. of no matter", "row break", "row .. =====", "row index")
-        self.says(desk, "draft", "break / index")
+        self.drafts(desk, ["break", "index"])
 
     def test_lines_that_can_not_be_read(self):
         desk = Desk()
@@ -102,7 +106,7 @@ class Texts(DeskCase):
                      "clashes", "keep", "take 0", "leave 0", "change anna cut 0"):
             self.refuses(desk, line, NoText, "row", 1)
         say_all(desk, "gone", "gone", "gone")
-        self.says(desk, "draft", "break")
+        self.drafts(desk, ["break"])
         say_all(desk, "row when plain", "row .. a")
         self.refuses(desk, "plain", NoText, "row", 3)
         say_all(desk, "row done")
@@ -113,8 +117,8 @@ class Texts(DeskCase):
         for line in ("plain", "numbers", "number a", "place a plain", "paper plain", "screen 24"):
             self.refuses(desk, line, NoText, "row", 0)
         # A Draft is of `main` alone.
-        for line in ("draft", "clashes"):
-            self.assertIn(desk.say(line), ("break", "none"))
+        self.drafts(desk, ["break"])
+        self.says(desk, "clashes", "none")
         say_all(desk, "change anna cut 0", "take 0", "leave 0", "keep")
 
     def test_the_first_text_that_can_not_be_read(self):
@@ -126,11 +130,11 @@ class Texts(DeskCase):
     def test_gone(self):
         desk = told_at(main=["break", ".. a"])
         say_all(desk, "gone")
-        self.says(desk, "draft", "break")
+        self.drafts(desk, ["break"])
         say_all(desk, "gone", "gone", "gone")
-        self.says(desk, "draft", "")
+        self.drafts(desk, [])
         say_all(desk, "row index")
-        self.says(desk, "draft", "index")
+        self.drafts(desk, ["index"])
 
     def test_more_than_six(self):
         desk = Desk()
@@ -138,7 +142,7 @@ class Texts(DeskCase):
         self.says(desk, "plain", "")
         say_all(desk, "text f")
         self.refuses(desk, "plain", NoTexts, "place", None)
-        self.says(desk, "draft", "")
+        self.drafts(desk, [])
 
     def test_eighty_lines_and_one_more(self):
         desk = told_at(main=["para - a"] * 80)
@@ -217,7 +221,7 @@ class Documents(DeskCase):
             for line in ("plain", "screen 24", "pages 24 10", "screen 1", "place b screen 1", "number b", "numbers",
                          "paper screen 1"):
                 self.refuses(desk, line, error, field, value)
-            self.says(desk, "draft", " / ".join(texts["main"]))
+            self.drafts(desk, texts["main"])
 
     def test_no_text_ahead_of_what_a_document_is_refused_with(self):
         desk = told_at(main=["include gone"], other=["no"])
@@ -226,19 +230,22 @@ class Documents(DeskCase):
 
 class Changes(DeskCase):
     def test_each_one(self):
-        desk = told_at(main=["head 1 a b", "para - c d e", "break"])
+        rows = ["head 1 a b", "para - c d e", "break"]
+        desk = told_at(main=rows)
         lines = ["put 0 1 x #y", "strike 1 0 2", "style 1 s", "add -1 para - n { o }", "add 2 figures", "cut 2",
                  "move 1 -1", "move 0 2"]
         for line in lines:
             self.says(desk, "change anna " + line, "ok")
-        draft = read_draft("head 1 a b\npara - c d e\nbreak\n=====\n" + "\n".join("open anna " + line for line in lines))
+        self.drafts(desk, rows, *["open anna " + line for line in lines])
+        draft = read_draft(desk.say("draft").replace(" / ", "\n"))
         self.says(desk, "clashes", "none")
         draft.take_all(tuple(range(8)))
         for number in range(8):
             self.says(desk, f"take {number}", "ok")
-        self.says(desk, "draft", str(draft.text()).replace("\n", " / "))
+        self.drafts(desk, rows, *["taken anna " + line for line in lines])
+        self.says(desk, "draft", str(draft).replace("\n", " / "))
         self.says(desk, "keep", "ok")
-        self.says(desk, "draft", str(draft.text()).replace("\n", " / "))
+        self.drafts(desk, str(draft.text()).split("\n"))
 
     def test_clashes(self):
         desk = told_at(main=["para - a b"])
@@ -251,49 +258,56 @@ class Changes(DeskCase):
         error = self.refuses(desk, "take 2", Clash, "one", 0)
         self.assertEqual((error.other, error.row), (2, 0))
         say_all(desk, "take 3", "take 3", "leave 0", "take 2")
-        self.says(desk, "draft", "para s")
+        self.drafts(desk, ["para - a b"], "left a put 0 1 x", "left b cut 0", "taken c strike 0 0 2", "taken c style 0 s")
+        say_all(desk, "keep")
+        self.drafts(desk, ["para s"])
 
     def test_take_and_leave(self):
         desk = told_at(main=["para - a"])
         say_all(desk, "change a put 0 0 x", "change a put 0 1 y")
-        self.says(desk, "draft", "para - a")
+        self.drafts(desk, ["para - a"], "open a put 0 0 x", "open a put 0 1 y")
         say_all(desk, "take 1")
-        self.says(desk, "draft", "para - a y")
+        self.drafts(desk, ["para - a"], "open a put 0 0 x", "taken a put 0 1 y")
         say_all(desk, "take 0")
-        self.says(desk, "draft", "para - x a y")
+        self.drafts(desk, ["para - a"], "taken a put 0 0 x", "taken a put 0 1 y")
         say_all(desk, "leave 1", "leave 1")
-        self.says(desk, "draft", "para - x a")
+        self.drafts(desk, ["para - a"], "taken a put 0 0 x", "left a put 0 1 y")
         for number in (2, 3, 24, 999999999):
             self.refuses(desk, f"take {number}", NoNumber, "place", number)
             self.refuses(desk, f"leave {number}", NoNumber, "place", number)
         self.refuses(Desk(), "take 0", NoNumber, "place", 0)
         # Printings are of `main` as it is.
         self.says(desk, "plain", "a")
+        say_all(desk, "keep")
+        self.drafts(desk, ["para - x a"])
 
     def test_keep(self):
         desk = told_at(main=[".. a", "para - a", "break"])
         say_all(desk, "change a put 0 0 x", "change b cut 1", "change c add 1 figures", "take 0", "leave 1", "keep")
-        self.says(desk, "draft", "para - x a / break")
+        self.drafts(desk, ["para - x a", "break"])
         self.says(desk, "clashes", "none")
         self.refuses(desk, "take 0", NoNumber, "place", 0)
         say_all(desk, "change d cut 1", "take 0", "keep", "gone")
-        self.says(desk, "draft", "")
+        self.drafts(desk, [])
         self.says(desk, "keep", "ok")
 
     def test_keep_without_rows(self):
         desk = told_at(main=["break", ".. b"])
-        say_all(desk, "change a cut 0", "take 0", "keep")
+        say_all(desk, "change a cut 0", "take 0")
+        self.drafts(desk, ["break"], "taken a cut 0")
+        say_all(desk, "keep")
+        self.drafts(desk, [])
         self.says(desk, "plain", "")
         say_all(desk, "row no")
         self.refuses(desk, "draft", NoText, "row", 0)
         say_all(desk, "gone", "gone", "row break")
-        self.says(desk, "draft", "break")
+        self.drafts(desk, ["break"])
 
     def test_keep_with_the_text_in_hand(self):
         desk = told_at(main=["include other"], other=["para - a"])
         say_all(desk, "text other", "change a add 0 break", "take 0", "keep", "row para - b")
         self.says(desk, "plain", "a / b")
-        self.says(desk, "draft", "include other / break")
+        self.drafts(desk, ["include other", "break"])
 
     def test_looked_at_by_itself_when_told(self):
         desk = told_at(main=["para - a", "table 1", "row", "cell 1 1 b", "close"])
@@ -323,8 +337,9 @@ class Changes(DeskCase):
         say_all(desk, "row no")
         self.refuses(desk, "change a cut 0", NoText, "row", 1)
         say_all(desk, "gone", "take 23")
-        self.says(desk, "draft", "para - x a")
+        self.drafts(desk, ["para - a"], *["open a put 0 0 x"] * 23, "taken a put 0 0 x")
         say_all(desk, "keep", "change a put 0 0 y")
+        self.drafts(desk, ["para - x a"], "open a put 0 0 y")
 
     def test_looked_at_again_where_a_draft_is_asked_for(self):
         desk = told_at(main=["para - a", "head 1 b", "para - c"])
@@ -334,26 +349,58 @@ class Changes(DeskCase):
         self.says(desk, "plain", "a / 1 b")
         self.refuses(desk, "change a cut 2", NoChanges, "place", 3)
         say_all(desk, "change a cut 1", "row break")
-        self.says(desk, "draft", "para - x a / head 1 b")
+        self.drafts(desk, ["para - a", "head 1 b", "break"], "taken a put 0 0 x", "taken a cut 2", "open a style 0 s",
+                    "open a cut 1")
         say_all(desk, "gone", "gone", "gone", "row head 1 z", "row break", "row break")
         self.refuses(desk, "draft", NoChanges, "place", 2)
 
     def test_states_stay_where_main_changes(self):
         desk = told_at(main=["para - a", "break"])
         say_all(desk, "change a put 0 0 x", "change a cut 1", "take 1", "leave 0", "gone", "row figures")
-        self.says(desk, "draft", "para - a")
+        self.drafts(desk, ["para - a", "figures"], "left a put 0 0 x", "taken a cut 1")
         say_all(desk, "row index")
-        self.says(desk, "draft", "para - a / index")
+        self.drafts(desk, ["para - a", "figures", "index"], "left a put 0 0 x", "taken a cut 1")
+        say_all(desk, "keep")
+        self.drafts(desk, ["para - a", "index"])
 
     def test_too_many(self):
-        desk = told_at(main=["para - " + " ".join(["a"] * 40)])
+        rows = ["para - " + " ".join(["a"] * 40)]
+        desk = told_at(main=rows)
         say_all(desk, "change a put 0 0 x x", "take 0")
-        for line in ("draft", "keep"):
-            self.refuses(desk, line, TooMany, "many", 42)
+        self.refuses(desk, "keep", TooMany, "many", 42)
+        # The Draft is written all the same, though there is no text by what is taken.
+        self.drafts(desk, rows, "taken a put 0 0 x x")
         say_all(desk, "leave 0", "keep")
-        desk = told_at(main=["break"] * 80)
+        self.drafts(desk, rows)
+        rows = ["break"] * 80
+        desk = told_at(main=rows)
         say_all(desk, "change a add 0 break", "take 0")
         self.refuses(desk, "keep", TooMany, "many", 81)
+        self.drafts(desk, rows, "taken a add 0 break")
+
+    def test_drafts_are_written_alike(self):
+        """The Draft's own text, not that of its text by what is taken: words as the plain form has them."""
+        desk = Desk()
+        self.drafts(desk, [])
+        say_all(desk, "row para - a b")
+        self.drafts(desk, ["para - a b"])
+        say_all(desk, "change ann put 0 2 x")
+        self.drafts(desk, ["para - a b"], "open ann put 0 2 x")
+        say_all(desk, "take 0")
+        self.drafts(desk, ["para - a b"], "taken ann put 0 2 x")
+        say_all(desk, "row .. passed over", "change bob add -1 head 1", "change bob move 0 -1", "leave 1")
+        self.drafts(desk, ["para - a b"], "taken ann put 0 2 x", "left bob add -1 head 1", "open bob move 0 -1")
+        draft = read_draft(desk.say("draft").replace(" / ", "\n"))
+        self.assertEqual(draft.state(), ("taken", "left", "open"))
+
+    def test_a_draft_changes_nothing(self):
+        desk = told_at(main=["para - a", ".. b"])
+        say_all(desk, "change a put 0 0 x", "change b cut 0", "take 0")
+        before = self.whole(desk)
+        for _ in range(3):
+            self.drafts(desk, ["para - a"], "taken a put 0 0 x", "open b cut 0")
+        self.assertEqual(self.whole(desk), before)
+        self.no_line(desk, "draft 0", "draft main", "draft ", " draft")
 
 
 class NoLines(DeskCase):
@@ -431,7 +478,7 @@ class Apart(DeskCase):
     def test_desks_have_nothing_in_common(self):
         one, other = Desk(), Desk()
         say_all(one, "row para - a", "change a cut 0", "text b")
-        self.says(other, "draft", "")
+        self.drafts(other, [])
         self.says(other, "clashes", "none")
         say_all(other, "row break")
         self.says(one, "plain", "a")

@@ -257,22 +257,25 @@ class History(unittest.TestCase):
                 self.assertEqual(told(other.text), newer)
                 if not isinstance(newer, Text):
                     break
-                self.look_at_desk(text, changes, chosen, newer)
+                self.look_at_desk(draft, chosen, newer)
                 self.look_at_prints(text, newer)
                 self.assertEqual(draft.elder(), text)
                 text = newer
 
-    def look_at_desk(self, text, changes, chosen, newer):
+    def look_at_desk(self, draft, chosen, newer):
         desk = Desk()
-        for line in str(text).split("\n") if len(text) else []:
+        lines = str(draft).split("\n")
+        parting = lines.index("=====")
+        for line in lines[:parting]:
             self.assertEqual(desk.say("row " + line), "ok")
-        for line in str(Draft(text, changes)).split("\n")[-len(changes):] if changes else []:
+        for line in lines[parting + 1:]:
             self.assertEqual(desk.say("change " + line.split(" ", 1)[1]), "ok")
         for one in chosen:
             self.assertEqual(desk.say(f"take {one}"), "ok")
-        self.assertEqual(desk.say("draft"), str(newer).replace("\n", " / "))
+        self.assertEqual(desk.say("draft"), " / ".join(lines))
+        self.assertEqual(read_draft(desk.say("draft").replace(" / ", "\n")), draft)
         self.assertEqual(desk.say("keep"), "ok")
-        self.assertEqual(desk.say("draft"), str(newer).replace("\n", " / "))
+        self.assertEqual(desk.say("draft"), str(Draft(newer)).replace("\n", " / "))
         self.assertEqual(told(desk.say, "plain"), told(self.plain_line, newer))
 
     def plain_line(self, text):
